@@ -1,0 +1,1 @@
+"""Boxsums: sums, leasts and greatests over boxes of cells."""

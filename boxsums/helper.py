@@ -33,3 +33,21 @@ def index_of(sides, place):
     for side, number in zip(sides, place):
         index = index * side + number
     return index
+
+
+def replaced(numbers, way, number):
+    return numbers[:way] + (number,) + numbers[way + 1:]
+
+
+# A key comes ahead of the entry that begins with it, as tuples compare: so no table need be gone
+# through from its first entry on.
+def entry_at(table, key):
+    low = 0
+    high = len(table) - 1
+    while low < high:
+        middle = (low + high) // 2
+        if table[middle] < key:
+            low = middle + 1
+        else:
+            high = middle
+    return table[low]

@@ -144,3 +144,45 @@ def things_that_are_no_box(sides):
         ((first,), (last,)), (dict.fromkeys(first, 0), last),
     ])
     return wrong
+
+
+def spoilt_parts(thing):
+    """Whatever comes of a tuple of tuples and numbers by making one thing in it another one."""
+    if not isinstance(thing, tuple):
+        for other in [thing + 1, thing - 1, thing + THIRTY * 10 ** 9] + wrong_numbers():
+            yield other
+        return
+    for other in [list(thing), dict(enumerate(thing)), thing + (0,), thing + thing[-1:], thing[:-1], thing[1:],
+                  None, True, 0, "a text", (), [], {}, (thing,)]:
+        yield other
+    for index, part in enumerate(thing):
+        for other in spoilt_parts(part):
+            yield thing[:index] + (other,) + thing[index + 1:]
+
+
+def some_indexes(many, most):
+    """At most so many numbers below many, the first and the last among them."""
+    if many <= most:
+        return list(range(many))
+    chance = random.Random(f"indexes {many}")
+    return sorted({0, many - 1} | {chance.randrange(many) for turn in range(most - 2)})
+
+
+def spoilt_tables(table, most=4):
+    """Things that the table is not, each but a little unlike it; most bounds the entries spoilt."""
+    things = [tuple(table), dict(enumerate(table)), [table], [tuple(table)], table + table[-1:], table + [None],
+              [None] * len(table), [], table[1:], table[:-1], table * 2, repr(table)]
+    if table[::-1] != table:
+        things.append(table[::-1])
+    indexes = some_indexes(len(table), most)
+    for index in indexes:
+        ahead, entry, behind = table[:index], table[index], table[index + 1:]
+        things.extend([ahead + behind, ahead + [entry, entry] + behind])
+        for other in indexes:
+            if table[other] != entry:
+                things.append(ahead + [table[other]] + behind)
+                exchanged = list(table)
+                exchanged[index], exchanged[other] = exchanged[other], exchanged[index]
+                things.append(exchanged)
+        things.extend(ahead + [other] + behind for other in spoilt_parts(entry))
+    return things

@@ -1,0 +1,107 @@
+"""All ways of keeping answer alike, and whatever table a look lets by answers truly: point 3."""
+
+import itertools
+import random
+import unittest
+
+from boxsums.fields import all_boxes
+from boxsums.plain import greatest_in, least_in, sum_in
+from boxsums.powers import by_powers, holds_powers, met_by, powers_of
+from boxsums.running import holds_running, running_of, sum_by_running, touched_by
+from boxsums.tables import box_cover, by_halves, changed_halves, halves_of, holds_halves
+from tests.samples import SMALL_SIDES, THIRTY, boxes_for, one_field_each, plain_cells, plain_places, with_cell
+
+
+class Alike(unittest.TestCase):
+    def alike(self, field, halves, box):
+        sides = field[0]
+        cells = plain_cells(field, box)
+        awaited = (sum(cells), min(cells), max(cells))
+        self.assertEqual((sum_in(field, box), least_in(field, box), greatest_in(field, box)), awaited)
+        self.assertEqual(sum_by_running(sides, running_of(field), box), awaited[0])
+        self.assertEqual(by_halves(sides, halves, box), awaited)
+        self.assertEqual(by_powers(sides, powers_of(field), box), awaited[1:])
+
+    def test_behind_changes(self):
+        for field in one_field_each(SMALL_SIDES + [(40,), (5, 6), (3, 3, 4)]):
+            chance = random.Random(f"changes {field[0]}")
+            places = plain_places(field[0])
+            halves = halves_of(field)
+            for turn in range(8):
+                place = chance.choice(places)
+                number = chance.choice([0, 1, -1, chance.randrange(-99, 100), THIRTY, -THIRTY])
+                halves = changed_halves(field[0], halves, place, number)[0]
+                field = with_cell(field, place, number)
+                self.assertEqual(halves, halves_of(field))
+                boxes = boxes_for(field[0], 30)
+                for box in chance.sample(boxes, min(3, len(boxes))):
+                    self.alike(field, halves, box)
+
+    def test_somewhat_beyond_the_bound_of_cells(self):
+        for sides in [(121,), (11, 12), (5, 5, 5)]:
+            many = len(plain_places(sides))
+            field = (sides, tuple(7 * k % 31 - 15 for k in range(many)))
+            halves = halves_of(field)
+            self.assertIs(holds_running(field, running_of(field)), True)
+            self.assertIs(holds_halves(field, halves), True)
+            self.assertIs(holds_powers(field, powers_of(field)), True)
+            for box in boxes_for(sides, 8):
+                self.alike(field, halves, box)
+
+
+class LetBy(unittest.TestCase):
+    """Every table of small numbers is shown to the looks; just one is let by, and it answers truly."""
+
+    def test_running(self):
+        for sides, cells in [((3,), (1, -1, 2)), ((1, 3), (0, 1, -2)), ((2, 2), (1, 0, -1, 2))]:
+            field = (sides, cells)
+            let_by = [list(numbers) for numbers in itertools.product(range(-3, 4), repeat=len(cells))
+                      if holds_running(field, list(numbers))]
+            self.assertEqual(len(let_by), 1)
+            for box in all_boxes(sides):
+                self.assertEqual(sum_by_running(sides, let_by[0], box), sum_in(field, box))
+
+    def test_halves(self):
+        field = ((2,), (0, 2))
+        boxes = [entry[0] for entry in halves_of(field)]
+        let_by = []
+        for numbers in itertools.product(range(3), repeat=9):
+            table = [(box, numbers[3 * k:3 * k + 3]) for k, box in enumerate(boxes)]
+            if holds_halves(field, table):
+                let_by.append(table)
+        self.assertEqual(len(let_by), 1)
+        for box in all_boxes((2,)):
+            awaited = (sum_in(field, box), least_in(field, box), greatest_in(field, box))
+            self.assertEqual(by_halves((2,), let_by[0], box), awaited)
+
+    def test_powers(self):
+        field = ((2,), (1, -1))
+        pieces = [entry[:2] for entry in powers_of(field)]
+        let_by = []
+        for numbers in itertools.product(range(-2, 3), repeat=6):
+            table = [piece + numbers[2 * k:2 * k + 2] for k, piece in enumerate(pieces)]
+            if holds_powers(field, table):
+                let_by.append(table)
+        self.assertEqual(len(let_by), 1)
+        for box in all_boxes((2,)):
+            self.assertEqual(by_powers((2,), let_by[0], box), (least_in(field, box), greatest_in(field, box)))
+
+
+class ToldOfItself(unittest.TestCase):
+    def test_nothing_told_is_kept_within(self):
+        sides = (2, 3)
+        field = (sides, (4, -1, 7, 0, 5, 2))
+        box = ((0, 1), (1, 2))
+        asked = [
+            lambda: running_of(field), lambda: touched_by(sides, (0, 1)), lambda: halves_of(field),
+            lambda: box_cover(sides, box), lambda: changed_halves(sides, halves_of(field), (1, 1), 9)[0],
+            lambda: changed_halves(sides, halves_of(field), (1, 1), 9)[1], lambda: powers_of(field),
+            lambda: met_by(sides, box), lambda: all_boxes(sides),
+        ]
+        for ask in asked:
+            told = ask()
+            kept = list(told)
+            told.reverse()
+            told[0] = None
+            told.append(None)
+            self.assertEqual(ask(), kept)

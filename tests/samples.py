@@ -186,3 +186,33 @@ def spoilt_tables(table, most=4):
                 things.append(exchanged)
         things.extend(ahead + [other] + behind for other in spoilt_parts(entry))
     return things
+
+
+SMALL_ROWS = [1, 2, 3, 4, 5, 6, 7, 8, 9]
+GREAT_ROWS = [120, 64, 119, 33]
+
+
+def rows_for(lengths):
+    """For each length rows of every sort of cells."""
+    return [row for length in lengths for row in cell_lists((length,))]
+
+
+def one_row_each(lengths):
+    """For each length one row, the sorts of cells taken in turn."""
+    return [list(field[1]) for field in one_field_each([(length,) for length in lengths])]
+
+
+def plain_told(cells):
+    return (sum(cells), min(cells), max(cells))
+
+
+def all_stretches(length):
+    """Every (low, high) of a row."""
+    return [(low, high) for low in range(length) for high in range(low, length)]
+
+
+def stretches_asked(length, most=40):
+    """Every (low, high) of a small row, at most so many of a great one."""
+    if length <= 9:
+        return all_stretches(length)
+    return [(box[0][0], box[1][0]) for box in some_boxes((length,), most)]

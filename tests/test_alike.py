@@ -5,11 +5,15 @@ import random
 import unittest
 
 from boxsums.fields import all_boxes
+from boxsums.keeper import Keeper
+from boxsums.looks import by_entries, holds_entries
 from boxsums.plain import greatest_in, least_in, sum_in
 from boxsums.powers import by_powers, holds_powers, met_by, powers_of
 from boxsums.running import holds_running, running_of, sum_by_running, touched_by
+from boxsums.steps import field_by, lifted, steps_of
 from boxsums.tables import box_cover, by_halves, changed_halves, halves_of, holds_halves
-from tests.samples import SMALL_SIDES, THIRTY, boxes_for, one_field_each, plain_cells, plain_places, with_cell
+from tests.samples import (SMALL_ROWS, SMALL_SIDES, THIRTY, boxes_for, one_field_each, one_row_each, plain_cells,
+                           plain_places, plain_told, stretches_asked, with_cell)
 
 
 class Alike(unittest.TestCase):
@@ -49,8 +53,54 @@ class Alike(unittest.TestCase):
                 self.alike(field, halves, box)
 
 
+class RowsAlike(unittest.TestCase):
+    def lift(self, low, high, number):
+        self.keeper.lift(low, high, number)
+        self.steps = lifted((len(self.row),), self.steps, ((low,), (high,)), number)[0]
+        self.row = [cell + number if low <= place <= high else cell for place, cell in enumerate(self.row)]
+
+    # By steps a cell becomes a number where it alone is lifted by what lacks.
+    def put(self, place, number):
+        self.keeper.put(place, number)
+        box = ((place,), (place,))
+        self.steps = lifted((len(self.row),), self.steps, box, number - self.row[place])[0]
+        self.row[place] = number
+
+    def alike(self):
+        sides = (len(self.row),)
+        field = field_by(sides, self.steps)
+        self.assertEqual(field, (sides, tuple(self.row)))
+        self.assertEqual(self.keeper.row(), self.row)
+        entries = self.keeper.entries()
+        self.assertIs(holds_entries(self.row, entries), True)
+        halves, running, powers = halves_of(field), running_of(field), powers_of(field)
+        for low, high in stretches_asked(len(self.row), 10):
+            box = ((low,), (high,))
+            awaited = plain_told(self.row[low:high + 1])
+            self.assertEqual(self.keeper.told(low, high), awaited)
+            self.assertEqual(by_entries(entries, low, high), awaited)
+            self.assertEqual(by_halves(sides, halves, box), awaited)
+            self.assertEqual((sum_by_running(sides, running, box),) + by_powers(sides, powers, box), awaited)
+
+    def test_behind_deeds(self):
+        for row in one_row_each(SMALL_ROWS + [40, 120]):
+            chance = random.Random(f"row deeds {len(row)}")
+            self.row, self.keeper, self.steps = list(row), Keeper(row), steps_of(((len(row),), tuple(row)))
+            for turn in range(8):
+                number = chance.choice([0, 1, -1, chance.randrange(-99, 100), THIRTY, -THIRTY])
+                low, high = sorted((chance.randrange(len(row)), chance.randrange(len(row))))
+                if turn % 3 == 0:
+                    self.put(low, number)
+                else:
+                    self.lift(low, high, number)
+                self.alike()
+            for turn in range(8):
+                self.keeper.back()
+            self.assertEqual(self.keeper.row(), row)
+
+
 class LetBy(unittest.TestCase):
-    """Every table of small numbers is shown to the looks; just one is let by, and it answers truly."""
+    """Every table of small numbers is shown to the looks; what is let by answers truly."""
 
     def test_running(self):
         for sides, cells in [((3,), (1, -1, 2)), ((1, 3), (0, 1, -2)), ((2, 2), (1, 0, -1, 2))]:
@@ -85,6 +135,21 @@ class LetBy(unittest.TestCase):
         self.assertEqual(len(let_by), 1)
         for box in all_boxes((2,)):
             self.assertEqual(by_powers((2,), let_by[0], box), (least_in(field, box), greatest_in(field, box)))
+
+
+    def test_entries(self):
+        row = [0, 1]
+        let_by = []
+        singles = [(number, number, number, waits) for number in range(-3, 4) for waits in (0, 1)]
+        wholes = list(itertools.product((0, 1, 2), (-1, 0, 1), (0, 1, 2), (-2, -1, 0, 1, 2)))
+        for first, whole, second in itertools.product(singles, wholes, singles):
+            entries = [((0, 0), first), ((0, 1), whole), ((1, 1), second)]
+            if holds_entries(row, entries):
+                let_by.append(entries)
+        self.assertEqual([entries[1][1][3] for entries in let_by], [2, 1, 0, -1, -2])
+        for entries in let_by:
+            for low, high in [(0, 0), (0, 1), (1, 1)]:
+                self.assertEqual(by_entries(entries, low, high), plain_told(row[low:high + 1]))
 
 
 class ToldOfItself(unittest.TestCase):

@@ -199,6 +199,16 @@ class Language(unittest.TestCase):
                 if isinstance(node.value.func, ast.Name):
                     self.assertNotIn(node.value.func.id, WALKED + ("set",), where)
 
+    def test_values_of_objects(self):
+        methods = {row.name for node, where in self.nodes() if isinstance(node, ast.ClassDef)
+                   for row in node.body if isinstance(row, ast.FunctionDef)}
+        pythons = {name for kind in (str, int, list, tuple, dict, set, bytes) for name in dir(kind)}
+        self.assertEqual((methods - set(DUNDERS)) & pythons, set())
+        for node, where in self.nodes():
+            if isinstance(node, ast.Attribute) and isinstance(node.ctx, ast.Store):
+                self.assertIsInstance(node.value, ast.Name, where)
+                self.assertNotIn(node.attr, methods | pythons | {"args"}, where)
+
     def test_texts(self):
         for node, where in self.nodes():
             if isinstance(node, ast.Constant) and isinstance(node.value, str):

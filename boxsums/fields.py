@@ -1,7 +1,7 @@
 """Fields, places and boxes."""
 
 from boxsums.errors import NoField
-from boxsums.helper import are_wholes, index_of, is_whole, places_between
+from boxsums.helper import are_wholes, index_of, is_whole, places_between, product
 
 MOST_WAYS = 3
 MOST_CELLS = 120
@@ -13,17 +13,10 @@ def are_sides(thing):
     return all([is_whole(side) and side >= 1 for side in thing])
 
 
-def cells_of_sides(sides):
-    product = 1
-    for side in sides:
-        product = product * side
-    return product
-
-
 def is_field(thing):
     if not isinstance(thing, tuple) or len(thing) != 2 or not are_sides(thing[0]):
         return False
-    many = cells_of_sides(thing[0])
+    many = product(thing[0])
     return many <= MOST_CELLS and are_wholes(thing[1], many)
 
 

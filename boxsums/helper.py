@@ -1,4 +1,4 @@
-"""What several modules need: kinds of things, choices way by way, the order of places."""
+"""What several modules need: kinds of things, choices way by way, products, the order of places."""
 
 
 # A truth is an int to Python, but no whole number here.
@@ -10,6 +10,13 @@ def are_wholes(thing, many):
     if not isinstance(thing, tuple) or len(thing) != many:
         return False
     return all([is_whole(number) for number in thing])
+
+
+def product(numbers):
+    result = 1
+    for number in numbers:
+        result = result * number
+    return result
 
 
 # The first choice goes slowest, so of rising choices the tuples come rising.

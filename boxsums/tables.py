@@ -2,7 +2,7 @@
 
 from boxsums.fields import cell_at, is_box
 from boxsums.halves import cover, stretches, two_halves
-from boxsums.helper import are_wholes, entry_at, one_of_each, replaced
+from boxsums.helper import are_wholes, entry_at, one_of_each, product, replaced
 from boxsums.plain import cells_in
 
 
@@ -100,7 +100,4 @@ def stretches_with(side, number):
 
 
 def many_cells(box):
-    product = 1
-    for first, last in zip(box[0], box[1]):
-        product = product * (last - first + 1)
-    return product
+    return product([last - first + 1 for first, last in zip(box[0], box[1])])

@@ -4,12 +4,16 @@ import itertools
 import random
 import unittest
 
+from boxsums.bests import best_of, holds_bests
 from boxsums.fields import all_boxes
 from boxsums.keeper import Keeper
 from boxsums.looks import by_entries, holds_entries
+from boxsums.moments import moments_of, sum_by_moments
+from boxsums.parted import parted, worths
 from boxsums.plain import greatest_in, least_in, sum_in
 from boxsums.powers import by_powers, holds_powers, met_by, powers_of
 from boxsums.running import holds_running, running_of, sum_by_running, touched_by
+from boxsums.sought import how_many_less, so_manieth
 from boxsums.steps import field_by, lifted, steps_of
 from boxsums.tables import box_cover, by_halves, changed_halves, halves_of, holds_halves
 from tests.samples import (SMALL_ROWS, SMALL_SIDES, THIRTY, boxes_for, one_field_each, one_row_each, plain_cells,
@@ -25,6 +29,7 @@ class Alike(unittest.TestCase):
         self.assertEqual(sum_by_running(sides, running_of(field), box), awaited[0])
         self.assertEqual(by_halves(sides, halves, box), awaited)
         self.assertEqual(by_powers(sides, powers_of(field), box), awaited[1:])
+        self.assertEqual(sum_by_moments(sides, moments_of(sides, steps_of(field)), box), awaited[0])
 
     def test_behind_changes(self):
         for field in one_field_each(SMALL_SIDES + [(40,), (5, 6), (3, 3, 4)]):
@@ -74,6 +79,8 @@ class RowsAlike(unittest.TestCase):
         entries = self.keeper.entries()
         self.assertIs(holds_entries(self.row, entries), True)
         halves, running, powers = halves_of(field), running_of(field), powers_of(field)
+        moments = moments_of(sides, self.steps)
+        most = best_of(field)[0]
         for low, high in stretches_asked(len(self.row), 10):
             box = ((low,), (high,))
             awaited = plain_told(self.row[low:high + 1])
@@ -81,6 +88,11 @@ class RowsAlike(unittest.TestCase):
             self.assertEqual(by_entries(entries, low, high), awaited)
             self.assertEqual(by_halves(sides, halves, box), awaited)
             self.assertEqual((sum_by_running(sides, running, box),) + by_powers(sides, powers, box), awaited)
+            self.assertEqual(sum_by_moments(sides, moments, box), awaited[0])
+            self.assertEqual(so_manieth(self.row, low, high, 0)[0], awaited[1])
+            self.assertEqual(so_manieth(self.row, low, high, high - low)[0], awaited[2])
+            self.assertEqual(how_many_less(self.row, low, high, awaited[1]), 0)
+            self.assertLessEqual(awaited[0], most)
 
     def test_behind_deeds(self):
         for row in one_row_each(SMALL_ROWS + [40, 120]):
@@ -152,6 +164,18 @@ class LetBy(unittest.TestCase):
                 self.assertEqual(by_entries(entries, low, high), plain_told(row[low:high + 1]))
 
 
+    def test_papers_of_bests(self):
+        for sides, cells in [((3,), (1, -1, 2)), ((2, 2), (-1, 1, 0, -1))]:
+            field = (sides, cells)
+            most = max(sum_in(field, box) for box in all_boxes(sides))
+            bases = all_boxes(sides[:-1])
+            let_by = []
+            for numbers in itertools.product(range(-2, 3), repeat=len(bases) * sides[-1]):
+                paper = [(base, numbers[k * sides[-1]:(k + 1) * sides[-1]]) for k, base in enumerate(bases)]
+                let_by.extend(number for number in (-1, 0, 1, 2, 3) if holds_bests(field, number, paper))
+            self.assertEqual(min(let_by), most)
+
+
 class ToldOfItself(unittest.TestCase):
     def test_nothing_told_is_kept_within(self):
         sides = (2, 3)
@@ -161,7 +185,11 @@ class ToldOfItself(unittest.TestCase):
             lambda: running_of(field), lambda: touched_by(sides, (0, 1)), lambda: halves_of(field),
             lambda: box_cover(sides, box), lambda: changed_halves(sides, halves_of(field), (1, 1), 9)[0],
             lambda: changed_halves(sides, halves_of(field), (1, 1), 9)[1], lambda: powers_of(field),
-            lambda: met_by(sides, box), lambda: all_boxes(sides),
+            lambda: met_by(sides, box), lambda: all_boxes(sides), lambda: steps_of(field),
+            lambda: lifted(sides, steps_of(field), box, 2)[0], lambda: lifted(sides, steps_of(field), box, 2)[1],
+            lambda: moments_of(sides, steps_of(field)), lambda: moments_of(sides, steps_of(field))[3],
+            lambda: worths(list(field[1])), lambda: parted(list(field[1])),
+            lambda: so_manieth(list(field[1]), 1, 4, 2)[1], lambda: best_of(field)[2],
         ]
         for ask in asked:
             told = ask()

@@ -2,13 +2,7 @@
 
 from boxsums.fields import all_boxes, is_box
 from boxsums.helper import are_wholes
-from boxsums.running import running_of, sum_by_running
-
-
-def sums_along(sides, running, base):
-    low = base[0]
-    high = base[1]
-    return [sum_by_running(sides, running, (low + (last,), high + (last,))) for last in range(sides[-1])]
+from boxsums.running import running_of, sum_by_running, sums_along
 
 
 # The least numbers that may stand there: each is the greatest sum of a box over the base that ends so.

@@ -1,6 +1,6 @@
 """Fields, places and boxes."""
 
-from boxsums.errors import NoField
+from boxsums.errors import NoBox, NoField
 from boxsums.helper import are_wholes, index_of, is_whole, places_between, product
 
 MOST_WAYS = 3
@@ -41,6 +41,11 @@ def is_box(sides, thing):
     if not is_place(sides, thing[0]) or not is_place(sides, thing[1]):
         return False
     return all([first <= last for first, last in zip(thing[0], thing[1])])
+
+
+def ask_for_box(sides, thing):
+    if not is_box(sides, thing):
+        raise NoBox("this is no box of these sides")
 
 
 def first_place(sides):

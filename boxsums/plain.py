@@ -1,15 +1,13 @@
 """The answers for a box straight from its cells."""
 
-from boxsums.errors import NoBox
-from boxsums.fields import is_box
+from boxsums.fields import ask_for_box
 from boxsums.helper import index_of, places_between
 
 
 # Cells along the last way stand side by side, so each line of the box is one slice.
 def cells_in(field, box):
     sides = field[0]
-    if not is_box(sides, box):
-        raise NoBox("this is no box of the field")
+    ask_for_box(sides, box)
     low = box[0]
     high = box[1]
     length = high[-1] - low[-1] + 1

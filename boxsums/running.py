@@ -51,5 +51,12 @@ def sum_by_running(sides, table, box):
     return sum([sign * table[index_of(sides, place)] for sign, place in corners(sides, box)])
 
 
+# A base is a box of the sides without the last one.
+def sums_along(sides, running, base):
+    low = base[0]
+    high = base[1]
+    return [sum_by_running(sides, running, (low + (last,), high + (last,))) for last in range(sides[-1])]
+
+
 def touched_by(sides, place):
     return places_between(place, last_place(sides))

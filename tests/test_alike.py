@@ -5,6 +5,7 @@ import random
 import unittest
 
 from boxsums.bests import best_of, holds_bests
+from boxsums.counted import all_of, how_many_of
 from boxsums.fields import all_boxes
 from boxsums.keeper import Keeper
 from boxsums.looks import by_entries, holds_entries
@@ -16,6 +17,8 @@ from boxsums.running import holds_running, running_of, sum_by_running, touched_b
 from boxsums.sought import how_many_less, so_manieth
 from boxsums.steps import field_by, lifted, steps_of
 from boxsums.tables import box_cover, by_halves, changed_halves, halves_of, holds_halves
+from boxsums.turned import (box_exchanged, box_mirrored, box_stretched, cut, exchanged, mirrored, stretched)
+from boxsums.windows import line, windows
 from tests.samples import (SMALL_ROWS, SMALL_SIDES, THIRTY, boxes_for, one_field_each, one_row_each, plain_cells,
                            plain_places, plain_told, stretches_asked, with_cell)
 
@@ -111,6 +114,74 @@ class RowsAlike(unittest.TestCase):
             self.assertEqual(self.keeper.row(), row)
 
 
+class Carried(unittest.TestCase):
+    """What is told of a field is told of the turned one, its boxes turned likewise."""
+
+    def answers(self, field, box):
+        sides = field[0]
+        by_halves_told = by_halves(sides, halves_of(field), box)
+        self.assertEqual((sum_in(field, box), least_in(field, box), greatest_in(field, box)), by_halves_told)
+        self.assertEqual(sum_by_running(sides, running_of(field), box), by_halves_told[0])
+        self.assertEqual(sum_by_moments(sides, moments_of(sides, steps_of(field)), box), by_halves_told[0])
+        self.assertEqual(by_powers(sides, powers_of(field), box), by_halves_told[1:])
+        return by_halves_told
+
+    def carried(self, field, turned, turn):
+        most, box, paper = best_of(field)
+        turned_most, turned_box, turned_paper = best_of(turned)
+        self.assertEqual(turned_most, most)
+        self.assertEqual(turned_box, min(turn(one) for one in all_of(field, most)))
+        self.assertIs(holds_bests(turned, most, turned_paper), True)
+        for number in sorted({0, 1, most, field[1][0], field[1][-1], sum(field[1])}):
+            self.assertEqual(all_of(turned, number), sorted(turn(one) for one in all_of(field, number)))
+            self.assertEqual(how_many_of(turned, number), how_many_of(field, number))
+        for box in boxes_for(field[0], 6)[:20]:
+            self.assertEqual(self.answers(turned, turn(box)), self.answers(field, box))
+
+    def test_exchanged_and_mirrored(self):
+        for field in one_field_each(SMALL_SIDES + [(30,), (5, 6), (3, 2, 5)]):
+            sides = field[0]
+            ways = range(len(sides))
+            for order in itertools.permutations(ways):
+                self.carried(field, exchanged(field, order), lambda box: box_exchanged(sides, box, order))
+            for many in range(len(sides) + 1):
+                for some in itertools.combinations(ways, many):
+                    self.carried(field, mirrored(field, some), lambda box: box_mirrored(sides, box, some))
+
+    def test_stretched(self):
+        for field in one_field_each([(1,), (4,), (2, 3), (1, 2), (2, 1, 3), (2, 2, 2)]):
+            sides = field[0]
+            for factors in itertools.product((1, 2), repeat=len(sides)):
+                turned = stretched(field, factors)
+                often = 1
+                for factor in factors:
+                    often *= factor
+                for box in boxes_for(sides):
+                    total, least, greatest = self.answers(field, box)
+                    turned_box = box_stretched(sides, box, factors)
+                    self.assertEqual(self.answers(turned, turned_box), (total * often, least, greatest))
+
+    def test_cut(self):
+        for field in one_field_each([(5,), (2, 3), (2, 2, 2), (30,), (5, 6), (3, 3, 4)]):
+            for box in boxes_for(field[0], 5):
+                part = cut(field, box)
+                for inner in boxes_for(part[0], 5)[:8]:
+                    moved = tuple(tuple(n + a for n, a in zip(place, box[0])) for place in inner)
+                    self.assertEqual(self.answers(part, inner), self.answers(field, moved))
+
+    def test_windows_and_lines(self):
+        for field in one_field_each([(5,), (2, 3), (2, 2, 2), (30,), (5, 6), (3, 3, 4)]):
+            sides = field[0]
+            for low, high in boxes_for(sides, 5):
+                sizes = tuple(b - a + 1 for a, b in zip(low, high))
+                for place, least, where, greatest, there in windows(field, sizes):
+                    box = (place, tuple(n + size - 1 for n, size in zip(place, sizes)))
+                    self.assertEqual(by_powers(sides, powers_of(field), box), (least, greatest))
+                if len(sides) == 1:
+                    firsts = [window[2][0] for window in windows(field, sizes)]
+                    self.assertEqual([places[0] for places in line(list(field[1]), sizes[0])][sizes[0] - 1:], firsts)
+
+
 class LetBy(unittest.TestCase):
     """Every table of small numbers is shown to the looks; what is let by answers truly."""
 
@@ -190,6 +261,7 @@ class ToldOfItself(unittest.TestCase):
             lambda: moments_of(sides, steps_of(field)), lambda: moments_of(sides, steps_of(field))[3],
             lambda: worths(list(field[1])), lambda: parted(list(field[1])),
             lambda: so_manieth(list(field[1]), 1, 4, 2)[1], lambda: best_of(field)[2],
+            lambda: all_of(field, 7), lambda: windows(field, (1, 2)), lambda: line(list(field[1]), 3),
         ]
         for ask in asked:
             told = ask()

@@ -216,3 +216,31 @@ class Language(unittest.TestCase):
             if isinstance(node, ast.FormattedValue):
                 self.assertIsInstance(node.value, ast.Name, where)
                 self.assertIsNone(node.format_spec, where)
+
+    def test_errors_taken_and_raised(self):
+        own = {row.name for tree in self.trees.values() for row in tree.body if isinstance(row, ast.ClassDef)}
+        for node, where in self.nodes():
+            if isinstance(node, ast.ExceptHandler):
+                self.assertIsInstance(node.type, ast.Name, where)
+                self.assertIn(node.type.id, own | {"KeyError", "ZeroDivisionError", "StopIteration"}, where)
+            if isinstance(node, ast.Raise):
+                self.assertIsInstance(node.exc, ast.Call, where)
+                self.assertIn(node.exc.func.id, own, where)
+
+    def test_lists_and_dicts_of_a_top_are_only_read(self):
+        for name, tree in self.trees.items():
+            tops = [row for row in tree.body if isinstance(row, ast.Assign)]
+            kept = {row.targets[0].id for row in tops if isinstance(row.value, (ast.List, ast.Dict))}
+            for row in tops:
+                for part in ast.walk(row.value):
+                    if part is not row.value:
+                        self.assertNotIsInstance(part, (ast.List, ast.Dict, ast.Set, ast.Call), name)
+            read = []
+            for node in ast.walk(tree):
+                if isinstance(node, ast.Subscript) and isinstance(node.ctx, ast.Load):
+                    read.append(node.value)
+                if isinstance(node, ast.Compare):
+                    read.extend(node.comparators)
+            for node in ast.walk(tree):
+                if isinstance(node, ast.Name) and isinstance(node.ctx, ast.Load) and node.id in kept:
+                    self.assertIn(node, read, f"{name}:{node.lineno}")
